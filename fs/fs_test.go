@@ -575,7 +575,7 @@ func TestP1_6Memory(t *testing.T) {
 	}
 }
 
-func TestP1_8NoFileSystem(t *testing.T) {
+func TestP0_1NoFileSystem(t *testing.T) {
 	var none *fs.FS
 	for i, e := range []api.Errno{none.Create("a"), none.Append("a", nil), none.Sync("a"), none.Truncate("a", 0), none.Rename("a", "b"), none.Remove("a")} {
 		want(t, strconv.Itoa(i), e, api.ErrDown)
